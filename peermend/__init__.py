@@ -1,0 +1,1 @@
+"""Peermend: tables of records that name each other, repaired without a log."""
