@@ -2,13 +2,78 @@
 
 import unittest
 from functools import lru_cache
-from itertools import product
+from itertools import permutations, product
 
-from peermend.pieces import is_repairable
+from peermend.pieces import is_repairable, pieces
 
 FREE_64 = list(range(64))
 PAIRS_64 = [record ^ 1 for record in range(64)]
 FAR_PAIRS_64 = [63 - record for record in range(64)]
+
+# The table of [6], to the letter: the records in their order, what they show, the condition.
+TABLE = {
+    "free": ("a", {"a": "a"}, lambda at: True),
+    "pair": ("ab", {"a": "b", "b": "a"}, lambda at: at["a"] < at["b"]),
+    "claim": ("ab", {"a": "b", "b": "b"}, lambda at: True),
+    "hook": ("cab", {"c": "a", "a": "b", "b": "a"}, lambda at: True),
+    "relay": ("cab", {"c": "a", "a": "b", "b": "b"}, lambda at: True),
+    "clamp": ("dabc", {"d": "a", "a": "b", "b": "a", "c": "b"}, lambda at: at["d"] < at["c"]),
+    "trail": ("dcab", {"d": "c", "c": "a", "a": "b", "b": "a"}, lambda at: True),
+    "wheel": ("abcd", {"a": "b", "b": "c", "c": "d", "d": "a"},
+              lambda at: at["a"] == min(at.values())),
+}
+
+# The table of [20], to the letter: the pairs of each choice; the other records become free.
+CHOICES = {
+    "hook": ("cab", {"back": ["ab"], "forward": ["ca"]}),
+    "relay": ("cab", {"near": ["ca"], "far": ["ab"]}),
+    "clamp": ("dabc", {"inner": ["da", "bc"], "outer": ["ab", "dc"]}),
+    "trail": ("dcab", {"near": ["dc", "ab"], "far": ["ca", "bd"]}),
+    "wheel": ("abcd", {"even": ["ab", "cd"], "odd": ["bc", "da"]}),
+}
+NAMES = tuple(CHOICES)
+STANDARD = ("back", "near", "inner", "near", "even")
+
+
+def named(word, records, image):
+    """Write a form into the image, its letters standing for the records."""
+    letters, shows, _ = TABLE[word]
+    at = dict(zip(letters, records))
+    for letter in letters:
+        image[at[letter]] = at[shows[letter]]
+
+
+def listed(word, records):
+    """The order in which the table lists what `named` has written."""
+    if word == "pair":
+        return tuple(sorted(records))
+    if word == "clamp" and records[0] > records[3]:
+        return tuple(reversed(records))
+    if word == "wheel":
+        first = records.index(min(records))
+        return tuple(records[first:]) + tuple(records[:first])
+    return tuple(records)
+
+
+def image_of(size, *written):
+    image = list(range(size))
+    for word, records in written:
+        named(word, records, image)
+    return image
+
+
+def mixed_pieces():
+    """Pieces with all words, whose records are all of a table of 64, far from each other."""
+    words = ["wheel", "trail", "clamp", "relay", "hook", "claim", "pair", "free"] * 2
+    words += ["trail", "wheel", "clamp", "relay", "hook"]
+    mixed = [(place * 27 + 5) % 64 for place in range(64)]
+    written, place = [], 0
+    for word in words:
+        size = len(TABLE[word][0])
+        written.append((word, tuple(mixed[place:place + size])))
+        place += size
+    assert place == 64
+    return written
 
 
 def all_images(size):
@@ -43,6 +108,107 @@ def state_of(size, *pairs):
         state[first] = second
         state[second] = first
     return state
+
+
+def words_of(number):
+    """The five choices of the rules with a number, as [20] numbers them."""
+    return tuple(list(words)[number // 2 ** at % 2]
+                 for at, (_, words) in enumerate(CHOICES.values()))
+
+
+def settle(state, word, records, choice):
+    """Write into the state what a choice of [20] makes of a piece; a claim becomes a pair."""
+    letters, ways = CHOICES.get(word, ("ab", {choice: ["ab"]}))
+    at = dict(zip(letters, records))
+    for record in records:
+        state[record] = record
+    for first, second in ways[choice]:
+        state[at[first]] = at[second]
+        state[at[second]] = at[first]
+
+
+def repair_by_table(image, words=STANDARD):
+    """The repair by the five choices, from the table of [20] alone."""
+    state = list(image)
+    for word, records in pieces(image):
+        if word not in ("free", "pair"):
+            settle(state, word, records, dict(zip(NAMES, words)).get(word))
+    return state
+
+
+def all_changes(size):
+    """All valid changes of a table, by the words of [17]."""
+    found = [("tie", (a, b)) for a, b in permutations(range(size), 2) if a < b]
+    found += [("move", (a, b, c)) for a, b, c in permutations(range(size), 3) if b < c]
+    found += [("cross", (a, b, c, d)) for a, b, c, d in permutations(range(size), 4)
+              if a < b and a < c and a < d and b < d]
+    return sorted(found)
+
+
+def rows_of(change):
+    """What the two sides show, by the words of [17], as two dicts."""
+    word, records = change
+    if word == "tie":
+        a, b = records
+        pairs, free = ([], [(a, b)]), ([a, b], [])
+    elif word == "move":
+        a, b, c = records
+        pairs, free = ([(a, b)], [(a, c)]), ([c], [b])
+    else:
+        a, b, c, d = records
+        pairs, free = ([(a, b), (c, d)], [(b, c), (d, a)]), ([], [])
+    rows = []
+    for side in (0, 1):
+        row = {x: x for x in free[side]}
+        for first, second in pairs[side]:
+            row[first] = second
+            row[second] = first
+        rows.append(row)
+    return rows
+
+
+def side_by_definition(image, change):
+    for side, row in enumerate(rows_of(change)):
+        if all(image[record] == name for record, name in row.items()):
+            return side
+    return None
+
+
+@lru_cache(maxsize=None)
+def _changes(size):
+    return [(change, *rows_of(change)) for change in all_changes(size)]
+
+
+def readings_by_words(image):
+    """All readings of an image, by the words of [31], each as a list of changes."""
+    torn = []
+    for change, first, second in _changes(len(image)):
+        if all(image[x] in (first[x], second[x]) for x in first):
+            if side_by_definition(image, change) is None:
+                torn.append(change)
+    found = []
+    chosen = [([], 0)]
+    while chosen:
+        reading, start = chosen.pop()
+        inside = {x for _, records in reading for x in records}
+        outside = [x for x in range(len(image)) if x not in inside]
+        if all(image[x] not in inside and image[image[x]] == x for x in outside):
+            found.append(reading)
+        for at in range(start, len(torn)):
+            if inside.isdisjoint(torn[at][1]):
+                chosen.append((reading + [torn[at]], at + 1))
+    return found
+
+
+def is_right_by_words(image, state, readings):
+    """Whether the state is right for the image with these readings, by the words of [25]."""
+    for reading in readings:
+        if any(side_by_definition(state, change) is None for change in reading):
+            return False
+        inside = {x for _, records in reading for x in records}
+        if any(state[x] != image[x] for x in range(len(image)) if x not in inside):
+            return False
+    return True
 
 
 class Case(unittest.TestCase):

@@ -1,9 +1,10 @@
 """Promises [2] and [17] to [19]: peermend.changes."""
 
 import unittest
-from itertools import permutations, product
+from itertools import product
 
-from helpers import FAR_PAIRS_64, FREE_64, PAIRS_64, Case, all_images, all_states, state_of
+from helpers import (FAR_PAIRS_64, FREE_64, PAIRS_64, Case, all_changes, all_images, all_states,
+                     rows_of, side_by_definition, state_of)
 from peermend import changes
 from peermend.changes import (change_of, changes_from, check_change, side_of, sides, states,
                               update_by)
@@ -41,44 +42,6 @@ BAD_CHANGES = (
     ("move", (-10 ** 20, 0, 1)), ("cross", (-1, 0, 1, 2)), ("cross", (0, 1, 5, 2)),
     ("cross", (0, 1, 2, 5)), ("cross", (0, 5, 2, 6)), ("cross", (0, -1, 2, 3)),
 )
-
-
-def all_changes(size):
-    """All valid changes of a table, by the words of [17]."""
-    found = [("tie", (a, b)) for a, b in permutations(range(size), 2) if a < b]
-    found += [("move", (a, b, c)) for a, b, c in permutations(range(size), 3) if b < c]
-    found += [("cross", (a, b, c, d)) for a, b, c, d in permutations(range(size), 4)
-              if a < b and a < c and a < d and b < d]
-    return sorted(found)
-
-
-def rows_of(change):
-    """What the two sides show, by the words of [17], as two dicts."""
-    word, records = change
-    if word == "tie":
-        a, b = records
-        pairs, free = ([], [(a, b)]), ([a, b], [])
-    elif word == "move":
-        a, b, c = records
-        pairs, free = ([(a, b)], [(a, c)]), ([c], [b])
-    else:
-        a, b, c, d = records
-        pairs, free = ([(a, b), (c, d)], [(b, c), (d, a)]), ([], [])
-    rows = []
-    for side in (0, 1):
-        row = {x: x for x in free[side]}
-        for first, second in pairs[side]:
-            row[first] = second
-            row[second] = first
-        rows.append(row)
-    return rows
-
-
-def side_by_definition(image, change):
-    for side, row in enumerate(rows_of(change)):
-        if all(image[record] == name for record, name in row.items()):
-            return side
-    return None
 
 
 class Interface(Case):

@@ -24,6 +24,23 @@ BUILTINS = set("""
     ZeroDivisionError ArithmeticError OverflowError RuntimeError NotImplementedError
     AttributeError StopIteration NotImplemented
 """.split())
+METHODS = set("""
+    append clear copy count endswith extend find get index insert isalnum isalpha isdigit islower
+    isspace isupper items join keys ljust lower lstrip partition pop remove replace reverse rfind
+    rjust rpartition rsplit rstrip setdefault split splitlines startswith strip update upper values
+    zfill bit_length add discard
+""".split())
+SPECIAL = set("""
+    init eq repr str len enter exit call iter lt le gt ge ne add sub mul floordiv mod pow and or xor
+    lshift rshift radd rsub rmul rfloordiv rmod rand ror rxor rlshift rrshift iadd isub imul
+    ifloordiv imod ipow iand ior ixor ilshift irshift neg pos invert abs bool contains getitem
+    setitem
+""".split())
+UNUSED = set("""
+    register mro elements open input law version_info with_traceback add_note attrgetter breakpoint
+    builtins compile copyright credits delattr dir eval exec exit gc globals help id importlib
+    license locals methodcaller os quit sys type vars
+""".split())
 BARRED = (ast.Global, ast.AsyncFunctionDef, ast.AsyncFor, ast.AsyncWith, ast.Await, ast.Div,
           ast.Import)
 AT_MODULE_LEVEL = (ast.ImportFrom, ast.FunctionDef, ast.ClassDef, ast.Assign)
@@ -104,6 +121,64 @@ class Language(unittest.TestCase):
             if isinstance(node, ast.Name) and hasattr(builtins, node.id):
                 self.assertIn(node.id, BUILTINS, place)
                 self.assertIsInstance(node.ctx, ast.Load, place)
+
+    def test_no_two_files_import_from_each_other(self):
+        known = {path.stem: {node.module.split(".")[-1] for node in ast.walk(tree_of(path))
+                             if isinstance(node, ast.ImportFrom) and node.module not in LIBRARY}
+                 for path in FILES}
+        done = set()
+        while len(done) < len(known):
+            ready = {name for name in known if name not in done and known[name] <= done}
+            self.assertTrue(ready, sorted(set(known) - done))
+            done |= ready
+
+    def test_decorators(self):
+        for place, node in nodes():
+            for decorator in getattr(node, "decorator_list", ()):
+                self.assertIsInstance(node, ast.FunctionDef, place)
+                if isinstance(decorator, ast.Attribute):
+                    self.assertEqual((decorator.attr, decorator.value.id), ("setter", node.name))
+                else:
+                    self.assertIn(decorator.id, ("property", "classmethod", "staticmethod"), place)
+
+    def test_names(self):
+        for place, node in nodes():
+            for name in self.bound_by(node):
+                self.assertNotIn(name, UNUSED, place)
+                self.assertFalse(name in dir(builtins) and name not in METHODS, f"{place} {name}")
+                if re.fullmatch("__.*__", name):
+                    self.assertIn(name.strip("_"), SPECIAL, place)
+                else:
+                    self.assertRegex(name, r"^(_|_?[A-Za-z][A-Za-z0-9_]*)$", place)
+
+    def bound_by(self, node):
+        if isinstance(node, (ast.FunctionDef, ast.ClassDef)):
+            return [node.name]
+        if isinstance(node, ast.arg):
+            return [node.arg]
+        if isinstance(node, ast.Name) and isinstance(node.ctx, ast.Store):
+            return [node.id]
+        if isinstance(node, ast.Attribute) and isinstance(node.ctx, ast.Store):
+            return [node.attr]
+        return []
+
+    def test_methods(self):
+        own = {node.name for _, node in nodes() if isinstance(node, ast.FunctionDef)}
+        for place, node in nodes():
+            if isinstance(node, ast.Call) and isinstance(node.func, ast.Attribute):
+                self.assertIn(node.func.attr, METHODS | own | {"__init__"}, place)
+
+    def test_defaults_are_plain(self):
+        for place, node in nodes():
+            if isinstance(node, ast.arguments):
+                for default in node.defaults + [one for one in node.kw_defaults if one]:
+                    self.assertIsInstance(ast.literal_eval(default),
+                                          (int, str, bytes, tuple, type(None)), place)
+
+    def test_what_is_iterated_at_once_is_a_list(self):
+        # The package has a class with == and with len, so no generator expression is used.
+        for place, node in nodes():
+            self.assertNotIsInstance(node, (ast.GeneratorExp, ast.Lambda), place)
 
 
 if __name__ == "__main__":

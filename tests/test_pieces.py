@@ -5,23 +5,12 @@ import unittest
 from itertools import permutations, product
 from math import gcd
 
+from helpers import TABLE, image_of, listed, mixed_pieces
 from peermend import pieces as module
 from peermend.errors import InvalidImage, Unrepairable
 from peermend.images import groups
 from peermend.pieces import WORDS, census, is_repairable, pieces, torn_pieces
 
-# The table of [6], to the letter: the records in their order, what they show, the condition.
-TABLE = {
-    "free": ("a", {"a": "a"}, lambda at: True),
-    "pair": ("ab", {"a": "b", "b": "a"}, lambda at: at["a"] < at["b"]),
-    "claim": ("ab", {"a": "b", "b": "b"}, lambda at: True),
-    "hook": ("cab", {"c": "a", "a": "b", "b": "a"}, lambda at: True),
-    "relay": ("cab", {"c": "a", "a": "b", "b": "b"}, lambda at: True),
-    "clamp": ("dabc", {"d": "a", "a": "b", "b": "a", "c": "b"}, lambda at: at["d"] < at["c"]),
-    "trail": ("dcab", {"d": "c", "c": "a", "a": "b", "b": "a"}, lambda at: True),
-    "wheel": ("abcd", {"a": "b", "b": "c", "c": "d", "d": "a"},
-              lambda at: at["a"] == min(at.values())),
-}
 TORN = ("claim", "hook", "relay", "clamp", "trail", "wheel")
 FUNCTIONS = (pieces, torn_pieces, census, is_repairable)
 
@@ -46,26 +35,6 @@ SHAPES_THAT_ARE_NO_PIECES = (
 )
 
 
-def named(word, records, image):
-    """Write a form into the image, its letters standing for the records."""
-    letters, shows, _ = TABLE[word]
-    at = dict(zip(letters, records))
-    for letter in letters:
-        image[at[letter]] = at[shows[letter]]
-
-
-def listed(word, records):
-    """The order in which the table lists what `named` has written."""
-    if word == "pair":
-        return tuple(sorted(records))
-    if word == "clamp" and records[0] > records[3]:
-        return tuple(reversed(records))
-    if word == "wheel":
-        first = records.index(min(records))
-        return tuple(records[first:]) + tuple(records[:first])
-    return tuple(records)
-
-
 def pieces_by_table(image):
     """All pieces and all other groups of an image, from the table alone."""
     found, others = [], []
@@ -84,13 +53,6 @@ def pieces_by_table(image):
         else:
             others.append(group)
     return found, others
-
-
-def image_of(size, *written):
-    image = list(range(size))
-    for word, records in written:
-        named(word, records, image)
-    return image
 
 
 class Case(unittest.TestCase):
@@ -195,15 +157,7 @@ class Forms(Case):
                     self.assert_repairable(image_of(size, *written), expected)
 
     def test_a_whole_table(self):
-        mixed = [(place * 27 + 5) % 64 for place in range(64)]
-        words = ["wheel", "trail", "clamp", "relay", "hook", "claim", "pair", "free"] * 2
-        words += ["trail", "wheel", "clamp", "relay", "hook"]
-        written, place = [], 0
-        for word in words:
-            size = len(TABLE[word][0])
-            written.append((word, mixed[place:place + size]))
-            place += size
-        self.assertEqual(place, 64)
+        written = mixed_pieces()
         expected = [(word, listed(word, records)) for word, records in written]
         expected.sort(key=lambda piece: min(piece[1]))
         self.assert_repairable(image_of(64, *written), expected)
