@@ -58,14 +58,36 @@ def change_of(update):
     found = parts(update.before, update.after)
     if len(found) != 1:
         return None
-    shape, row = found[0]
+    return change_of_part(found[0])
+
+
+def change_of_part(part):
+    """Return the change that is the update of the part alone, or None."""
+    shape, row = part
     if shape == "chain" and len(row) == 2:
-        return "tie", tuple(row)
+        return tie_of(row)
     if shape == "chain" and len(row) == 3:
-        return _move(row[1], row[0], row[2])
+        return move_of(row[1], row[0], row[2])
     if shape == "ring" and len(row) == 4:
-        return _cross(row[0], row[1], row[2], row[3])
+        return cross_of(row)
     return None
+
+
+def tie_of(records):
+    """Return the tie of two records."""
+    return "tie", tuple(sorted(records))
+
+
+def move_of(a, b, c):
+    """Return the move of a between b and c."""
+    return "move", (a, min(b, c), max(b, c))
+
+
+def cross_of(circle):
+    """Return the cross of four records whose sides pair neighbours in the circle."""
+    at = circle.index(min(circle))
+    a, b, c, d = circle[at:] + circle[:at]
+    return "cross", (a, min(b, d), c, max(b, d))
 
 
 def changes_from(state):
@@ -76,17 +98,19 @@ def changes_from(state):
     found = [("tie", (a, b)) for a in free for b in free if a < b]
     found.extend([("tie", pair) for pair in pairs])
     for a, b in pairs:
-        found.extend([_move(a, b, c) for c in free])
-        found.extend([_move(b, a, c) for c in free])
+        found.extend([move_of(a, b, c) for c in free])
+        found.extend([move_of(b, a, c) for c in free])
         later = [pair for pair in pairs if pair[0] > a]
-        found.extend([_cross(a, b, c, d) for c, d in later])
-        found.extend([_cross(a, b, d, c) for c, d in later])
+        found.extend([cross_of([a, b, c, d]) for c, d in later])
+        found.extend([cross_of([a, b, d, c]) for c, d in later])
     for change in sorted(found):
         yield change
 
 
 def states(size):
-    """Yield all states of a size, ascending."""
+    """Yield all states of a size, ascending; there is none of a size below 0."""
+    if size < 0:
+        return
     names = [None] * size
     for state in _completed(names):
         yield state
@@ -104,16 +128,6 @@ def _in_order(word, records):
 def _shown(records, places):
     """Return the tuples (record, name), ascending."""
     return sorted([(record, records[place]) for record, place in zip(records, places)])
-
-
-def _move(a, b, c):
-    """Return the move of a between b and c."""
-    return "move", (a, min(b, c), max(b, c))
-
-
-def _cross(a, b, c, d):
-    """Return the cross of the circle a, b, c, d, where a is the least."""
-    return "cross", (a, min(b, d), c, max(b, d))
 
 
 def _completed(names):

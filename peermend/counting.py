@@ -30,7 +30,8 @@ def count_images(size, *, torn=None):
     """Return the number of repairable images of a size, with so many torn pieces or with any."""
     rows = _torn_rows(size)
     if torn is None:
-        return sum(rows[size])
+        # As many torn pieces as there is room for; below size 0 not even none of them.
+        return sum([_entry(rows, size, many) for many in range(size // 2 + 1)])
     return _entry(rows, size, torn)
 
 
@@ -54,9 +55,9 @@ def image_number(image):
 
 def image_at(size, number):
     """Return the repairable image of a size that has the number."""
-    totals = _totals(size)
-    if number < 0 or number >= totals[size]:
+    if number < 0 or number >= count_images(size):
         raise InvalidNumber(number)
+    totals = _totals(size)
     image = [0] * size
     left = list(range(size))
     while left:

@@ -2,13 +2,32 @@
 
 import unittest
 from functools import lru_cache
-from itertools import permutations, product
+from itertools import chain, combinations, permutations, product
 
+from peermend.errors import InvalidImage, NotState, UnequalSizes
 from peermend.pieces import is_repairable, pieces
 
 FREE_64 = list(range(64))
 PAIRS_64 = [record ^ 1 for record in range(64)]
 FAR_PAIRS_64 = [63 - record for record in range(64)]
+
+# (the first image or state, the second, the error of the two as states)
+BAD_PAIRS = (
+    ([1], [0], InvalidImage(0)),
+    ([0, -1], [0, 1], InvalidImage(1)),
+    ([1, 1], [0, 1], NotState(0)),
+    ([1, 2, 0], [0, 1, 2], NotState(0)),
+    ([0, 0], [5, 5], NotState(1)),
+    ([1, 1, 3], [9], InvalidImage(2)),
+    ([0, 1], [0, 2], InvalidImage(1)),
+    ([0, 1], [0, 0], NotState(1)),
+    ([1, 0], [0, 0, 3], InvalidImage(2)),
+    ([1, 0], [0, 0, 2], NotState(1)),
+    ([1, 0], [0, 1, 2], UnequalSizes()),
+    ([], [0], UnequalSizes()),
+    ([0], [], UnequalSizes()),
+    (FREE_64, PAIRS_64[:62], UnequalSizes()),
+)
 
 # The table of [6], to the letter: the records in their order, what they show, the condition.
 TABLE = {
@@ -74,6 +93,49 @@ def mixed_pieces():
         place += size
     assert place == 64
     return written
+
+
+def drawn_state(draw, size):
+    """A state of a size; the draw is a random.Random, made from a fixed number."""
+    records = list(range(size))
+    draw.shuffle(records)
+    pairs = draw.randint(0, size // 2)
+    return state_of(size, *zip(records[:2 * pairs:2], records[1:2 * pairs:2]))
+
+
+def drawn_image(draw, size):
+    """A repairable image of a size, with all sorts of pieces."""
+    records = list(range(size))
+    draw.shuffle(records)
+    written = []
+    while records:
+        word = draw.choice([word for word in TABLE if len(TABLE[word][0]) <= len(records)])
+        many = len(TABLE[word][0])
+        written.append((word, records[:many]))
+        records = records[many:]
+    return image_of(size, *written)
+
+
+def subsets(records):
+    return chain.from_iterable(combinations(records, many) for many in range(len(records) + 1))
+
+
+def entries_of(length):
+    """The entries that a kind can have for a part of so many records, by the words of [15]."""
+    if length % 2:
+        return [("chain", length, 0)]
+    rings = [("ring", length, 0)] if length >= 4 else []
+    return [("chain", length, -1), ("chain", length, 1)] + rings
+
+
+@lru_cache(maxsize=None)
+def all_kinds(most):
+    """All kinds whose lengths add up to at most so many, ascending."""
+    found = {()}
+    for length in range(2, most + 1):
+        for rest in all_kinds(most - length):
+            found.update(tuple(sorted(rest + (entry,))) for entry in entries_of(length))
+    return sorted(found)
 
 
 def all_images(size):

@@ -291,6 +291,10 @@ class States(Case):
         self.assertEqual(list(states(0)), [[]])
         self.assertEqual(list(states(3)), [[0, 1, 2], [0, 2, 1], [1, 0, 2], [2, 1, 0]])
 
+    def test_sizes_below_zero(self):
+        for size in range(-5, 0):
+            self.assertEqual(list(states(size)), [])
+
     def test_ascending_and_as_many_as_there_are(self):
         for size in range(10):
             found = list(states(size))

@@ -71,6 +71,15 @@ class Counts(Case):
                          [1, 1, 4, 22, 136, 856, 7216, 65584])
         self.assertEqual([count_images(4, torn=torn) for torn in range(4)], [10, 114, 12, 0])
 
+    def test_sizes_below_zero(self):
+        for size in range(-5, 0):
+            for torn in (None, -2, -1, 0, 1, 2):
+                self.assertEqual(count_images(size, torn=torn), 0)
+            self.assertEqual(count_images(size), 0)
+            self.assertEqual(count_states(size), 0)
+            for number in (-10 ** 20, -1, 0, 1, 10 ** 20):
+                self.assert_error(InvalidNumber(number), image_at, size, number)
+
     def test_all_sizes_by_choosing_the_pieces(self):
         for size in SIZES:
             self.assertEqual(count_states(size), states_by_pairs(size))

@@ -162,6 +162,31 @@ class Language(unittest.TestCase):
             return [node.attr]
         return []
 
+    def test_no_name_of_a_file_is_given_another_meaning_in_it(self):
+        for path in FILES:
+            tree = tree_of(path)
+            known = [name for statement in tree.body for name in self.named_by(statement)]
+            self.assertEqual(len(known), len(set(known)), path.name)
+            for node in ast.walk(tree):
+                inside = isinstance(node, ast.arg) or isinstance(node, ast.Name) and node not in [
+                    target for statement in tree.body for target in getattr(statement, "targets", ())]
+                for name in self.bound_by(node) if inside else ():
+                    self.assertNotIn(name, known, f"{path.name}:{node.lineno}")
+
+    def named_by(self, statement):
+        if isinstance(statement, ast.ImportFrom):
+            return [alias.name for alias in statement.names]
+        if isinstance(statement, ast.Assign):
+            return [target.id for target in statement.targets]
+        return self.bound_by(statement)
+
+    def test_no_name_is_an_attribute_and_a_method(self):
+        methods = {method.name for _, node in nodes() if isinstance(node, ast.ClassDef)
+                   for method in node.body if isinstance(method, ast.FunctionDef)}
+        for place, node in nodes():
+            if isinstance(node, ast.Attribute) and isinstance(node.ctx, ast.Store):
+                self.assertNotIn(node.attr, methods, place)
+
     def test_methods(self):
         own = {node.name for _, node in nodes() if isinstance(node, ast.FunctionDef)}
         for place, node in nodes():

@@ -2,10 +2,10 @@
 
 import unittest
 from functools import lru_cache
-from itertools import chain, combinations, permutations, product
+from itertools import chain, permutations, product
 
 from helpers import (CHOICES, FREE_64, NAMES, PAIRS_64, TABLE, Case, all_images, all_repairable,
-                     image_of, mixed_pieces, repair_by_table, words_of)
+                     image_of, mixed_pieces, repair_by_table, subsets, words_of)
 from peermend import repair as module
 from peermend.errors import InvalidImage, InvalidRecord, Unrepairable
 from peermend.images import check_state
@@ -30,10 +30,6 @@ BAD_IMAGES = (
     ([0, 3, 5, 4, 1, 6, 2], Unrepairable([1, 3, 4])), ([63] * 64, Unrepairable(FREE_64)),
     (FREE_64[:63] + [64], InvalidImage(63)),
 )
-
-
-def subsets(records):
-    return chain.from_iterable(combinations(records, many) for many in range(len(records) + 1))
 
 
 @lru_cache(maxsize=None)

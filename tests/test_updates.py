@@ -3,7 +3,8 @@
 import unittest
 from itertools import product
 
-from helpers import FAR_PAIRS_64, FREE_64, PAIRS_64, Case, all_images, all_states, state_of
+from helpers import (BAD_PAIRS, FAR_PAIRS_64, FREE_64, PAIRS_64, Case, all_images, all_states,
+                     state_of)
 from peermend import updates
 from peermend.errors import (Busy, InvalidImage, InvalidKind, InvalidRecord, InvalidUpdate, NotState,
                              UnequalSizes)
@@ -11,23 +12,6 @@ from peermend.images import check_state
 from peermend.kinds import kind_of, reverse_kind, sample_rows
 from peermend.updates import Update, sample
 
-# (the first image or state, the second, the error of the two as states)
-BAD_PAIRS = (
-    ([1], [0], InvalidImage(0)),
-    ([0, -1], [0, 1], InvalidImage(1)),
-    ([1, 1], [0, 1], NotState(0)),
-    ([1, 2, 0], [0, 1, 2], NotState(0)),
-    ([0, 0], [5, 5], NotState(1)),
-    ([1, 1, 3], [9], InvalidImage(2)),
-    ([0, 1], [0, 2], InvalidImage(1)),
-    ([0, 1], [0, 0], NotState(1)),
-    ([1, 0], [0, 0, 3], InvalidImage(2)),
-    ([1, 0], [0, 0, 2], NotState(1)),
-    ([1, 0], [0, 1, 2], UnequalSizes()),
-    ([], [0], UnequalSizes()),
-    ([0], [], UnequalSizes()),
-    (FREE_64, PAIRS_64[:62], UnequalSizes()),
-)
 FIVE = Update([1, 0, 2, 4, 3], [2, 1, 0, 4, 3])
 
 
