@@ -78,8 +78,8 @@ class Store:
             many = _needed(numbers, lies, blanks) - len(cells)
             if many > lacking.get(cells, 0):
                 lacking[cells] = many
-        for many in range(self.width + 1):
-            for second in combinations(range(self.width), many):
+        for length in range(self.width + 1):
+            for second in combinations(range(self.width), length):
                 if _suffices(second, lacking):
                     return list(second)
         return None

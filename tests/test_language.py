@@ -200,6 +200,57 @@ class Language(unittest.TestCase):
                     self.assertIsInstance(ast.literal_eval(default),
                                           (int, str, bytes, tuple, type(None)), place)
 
+    def test_combinations_are_of_a_plain_number_of_items(self):
+        for _, function in nodes():
+            if isinstance(function, ast.FunctionDef):
+                for call in ast.walk(function):
+                    if self.calls(call, "combinations", "permutations") and len(call.args) > 1:
+                        self.assertTrue(self.is_plain_number(call.args[1], function),
+                                        f"{function.name}:{call.lineno}")
+
+    def test_which_numbers_are_plain(self):
+        plain = ("n = 2", "n = len(xs) + 1", "n = int(x)", "for n in range(9): pass",
+                 "m = 2\nn = m + 1", "[n for n in range(9)]")
+        other = ("n = x", "n = len(xs) - x", "n = f(xs)", "n += x", "n, m = xs", "n = True",
+                 "for n in xs: pass", "[n for n in xs]", "n = n + 1", "if n := x: pass", "pass")
+        for rows in plain + other:
+            tree = ast.parse(rows)
+            self.assertEqual(self.is_plain_number(ast.Name("n"), tree), rows in plain, rows)
+        for rows in other[:-1]:
+            for more in plain:
+                self.assertFalse(self.is_plain_number(ast.Name("n"), ast.parse(f"{more}\n{rows}")))
+        bare, assigned = ast.parse("def f(n): pass\ndef g(n):\n    n = 2").body
+        self.assertTrue(self.is_plain_number(ast.Name("n"), bare))
+        self.assertFalse(self.is_plain_number(ast.Name("n"), assigned))
+
+    def calls(self, node, *names):
+        return isinstance(node, ast.Call) and isinstance(node.func, ast.Name) and node.func.id in names
+
+    def is_plain_number(self, value, tree, met=()):
+        if isinstance(value, ast.Constant):
+            # True is an integer, too, but no number that is written out.
+            return isinstance(value.value, int) and not isinstance(value.value, bool)
+        if isinstance(value, ast.BinOp) and isinstance(value.op, ast.Add):
+            return all(self.is_plain_number(side, tree, met) for side in (value.left, value.right))
+        if isinstance(value, ast.Name) and value.id not in met:
+            return self.is_plain_name(value.id, tree, met + (value.id,))
+        return self.calls(value, "len", "int")
+
+    def is_plain_name(self, name, tree, met):
+        nodes_of = list(ast.walk(tree))
+        stored = [node for node in nodes_of if name in self.bound_by(node)]
+        if any(isinstance(node, ast.arg) for node in stored):
+            return len(stored) == 1
+        known = 0
+        for node in nodes_of:
+            targets = getattr(node, "targets", None) or [getattr(node, "target", None)]
+            if any(isinstance(target, ast.Name) and target.id == name for target in targets):
+                if isinstance(node, ast.Assign):
+                    known += self.is_plain_number(node.value, tree, met)
+                elif isinstance(node, (ast.For, ast.comprehension)):
+                    known += self.calls(node.iter, "range")
+        return 0 < known == len(stored)
+
     def test_what_is_iterated_at_once_is_a_list(self):
         # The package has a class with == and with len, so no generator expression is used.
         for place, node in nodes():
